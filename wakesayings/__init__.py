@@ -1,0 +1,1 @@
+"""Wakesayings: sayings for all x that wake one another."""

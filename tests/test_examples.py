@@ -13,6 +13,63 @@ EXAMPLES = {
 >>> [front.words(), front.letters(), front // "f", front.cut(1), (front // "g").lifted("h")]
 [[(), ('f',), ('g',), ('f', 'g'), ('f', 'g', 'f')], ['f', 'g'], Front([('g',), ('g', 'f')]), Front([('f',), ('g',)]), Front([('h',)])]
 """,
+    "stage 2": r"""
+>>> from wakesayings.books import Book
+>>> from wakesayings.sayings import Saying
+>>> up = Saying([("f",)], [("f", "g")])
+>>> fall = Saying([("g", "f"), ("f",)], [("h",)])
+>>> book = Book([up, fall]) + up
+>>> [fall.triggers(), fall.trigger_front(), book.letters(), book.make_letters(), book.full_front()]
+[[('f',), ('g', 'f')], Front([('f',), ('g',), ('g', 'f')]), ['f', 'g', 'h'], ['f', 'g', 'h'], Front([('f',), ('g',), ('h',)])]
+>>> [book.kept([2, 0, 2]) == Book([up, up]), len(book | Book([fall, up])), book.without(1).full_front()]
+[True, 3, Front([('f',), ('g',)])]
+""",
+    "stage 3": r"""
+>>> from wakesayings.webs import Web
+>>> web = Web(["b"], [("a", "f", "g")], [(("a", "f", "f"), ("a", "f")), (("b",), ("a", "f"))])
+>>> [web.knots(), web.things(), web[("b", "f", "g")], web.walked(("a",), ("f", "g", "f"))]
+[[('a',), ('b',), ('b', 'g')], ['a', 'b'], ('b', 'g'), None]
+>>> [web.leads(), web.pairs(), web.is_tree, ("a", "f", "f", "f", "g") in web]
+[[(('a',), 'f', ('b',)), (('b',), 'f', ('b',)), (('b',), 'g', ('b', 'g'))], [(('a', 'f'), ('b',)), (('b', 'f'), ('b',))], False, True]
+>>> [web.front_at(("b",)).words(), len(web + ("a", "g", "g")), web.with_pair(("a",), ("b",)).knots()]
+[[(), ('f',), ('g',), ('f', 'f'), ('f', 'g'), ('f', 'f', 'f'), ('f', 'f', 'g')], 5, [('a',), ('a', 'g')]]
+""",
+    "stage 4": r"""
+>>> from wakesayings.books import Book
+>>> from wakesayings.makers import Maker
+>>> from wakesayings.making import end_of, new_instances, rounds_of, sure_instances
+>>> from wakesayings.sayings import Saying
+>>> from wakesayings.webs import Web
+>>> inward = Book([Saying([("f",), ("f", "g")], [("g",)])])
+>>> chain = Web(terms=[("a", "f", "f", "g")])
+>>> [new_instances(inward, chain), rounds_of(inward, chain), sure_instances(inward, chain)]
+[[(0, ('a', 'f'))], 2, [(0, ('a',)), (0, ('a', 'f'))]]
+>>> [end_of(inward, chain).knots(), len(end_of(inward, chain, without=[(0, ("a", "f"))]))]
+[[('a',), ('a', 'f'), ('a', 'g'), ('a', 'f', 'f'), ('a', 'f', 'g'), ('a', 'f', 'f', 'g')], 4]
+>>> maker = Maker(inward, chain)
+>>> [maker.do_round(), maker.at_rest, maker.finish(), maker.many, maker.undo(), maker.many]
+[1, False, 1, 2, None, 1]
+""",
+    "stage 5": r"""
+>>> from wakesayings.books import Book
+>>> from wakesayings.coming import coming_front, comes, reached_fronts
+>>> from wakesayings.fronts import Front
+>>> from wakesayings.lines import is_derivation, wrong_line
+>>> from wakesayings.sayings import Saying
+>>> from wakesayings.tables import shows, table_of
+>>> both = Book([Saying([("f",)], [("f", "g")]), Saying([("g",)], [("g", "f")])])
+>>> begin = Front([("f",)])
+>>> [coming_front(both, begin), comes(both, begin, ("g",)), reached_fronts(both, begin)]
+[Front([('f',), ('f', 'g'), ('f', 'g', 'f')]), False, [Front([('f',)]), Front([('f',), ('f', 'g')]), Front([('g',), ('g', 'f')])]]
+>>> lines = [(begin, ("f",), "told"), (begin, ("f", "g"), 0)]
+>>> [is_derivation(both, begin, ("f", "g"), lines), wrong_line(both, lines), wrong_line(both, lines[1:])]
+[True, None, 0]
+>>> one = Book([Saying([("f",)], [("f", "g")])])
+>>> table_of(one, begin)
+[(Front([]), Front([])), (Front([('f',)]), Front([('f',), ('f', 'g')])), (Front([('g',)]), Front([('g',)]))]
+>>> [shows(one, begin, ("g",), table_of(one, begin)), shows(one, begin, ("f", "g"), table_of(one, begin))]
+[True, False]
+""",
 }
 
 

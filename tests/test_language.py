@@ -34,6 +34,12 @@ NOT_USED = set("""register mro elements open input law version_info with_traceba
 BARRED_NODES = (ast.AsyncFunctionDef, ast.AsyncFor, ast.AsyncWith, ast.Await, ast.Import, ast.Div, ast.Global)
 
 
+# These classes change their own objects; nothing else changes what it did not create itself.
+CHANGING = {"Maker", "Trial", "Steps"}
+CHANGES = {"append", "clear", "extend", "insert", "pop", "remove", "reverse", "setdefault", "update", "add", "discard",
+           "sort"}
+
+
 def nodes(kind):
     for path, tree in TREES.items():
         for node in ast.walk(tree):
@@ -54,6 +60,80 @@ def bound_names():
             yield where, node.arg
         elif isinstance(node, (ast.FunctionDef, ast.ClassDef)):
             yield where, node.name
+
+
+def functions():
+    """Rows (where, class or None, function)."""
+    for path, tree in TREES.items():
+        for node in tree.body:
+            if isinstance(node, ast.FunctionDef):
+                yield f"{path.name}:{node.lineno}", None, node
+            elif isinstance(node, ast.ClassDef):
+                for row in node.body:
+                    if isinstance(row, ast.FunctionDef):
+                        yield f"{path.name}:{row.lineno}", node.name, row
+
+
+def root_of(node):
+    """The innermost part of what attributes and items are read off, also through setdefault."""
+    while isinstance(node, (ast.Attribute, ast.Subscript, ast.Call)):
+        node = node.func if isinstance(node, ast.Call) else node.value
+    return node
+
+
+def plain_targets(node):
+    """The single targets of a target."""
+    if isinstance(node, (ast.Tuple, ast.List)):
+        return [single for part in node.elts for single in plain_targets(part)]
+    return [node.value] if isinstance(node, ast.Starred) else [node]
+
+
+def targets_of(node):
+    """The targets of a statement that assigns or removes."""
+    told = node.targets if isinstance(node, (ast.Assign, ast.Delete)) else [node.target]
+    return [single for part in told for single in plain_targets(part)]
+
+
+def creates(node):
+    """Whether a value is surely a list, dict or set that was created on the spot."""
+    if isinstance(node, (ast.List, ast.Dict, ast.Set, ast.ListComp, ast.DictComp, ast.SetComp)):
+        return True
+    return isinstance(node, ast.Call) and isinstance(node.func, ast.Name) and node.func.id in (
+        "list", "dict", "set", "sorted")
+
+
+def created_names(function):
+    """The local names that are only ever assigned what was created on the spot, and those of own new objects."""
+    given = {row.arg for row in ast.walk(function.args) if isinstance(row, ast.arg)}
+    values = {}
+    for node in ast.walk(function):
+        if isinstance(node, ast.Assign):
+            for target in node.targets:
+                if isinstance(target, ast.Name):
+                    values.setdefault(target.id, []).append(node.value)
+                else:
+                    for single in plain_targets(target):
+                        values.setdefault(getattr(single, "id", None), []).append(None)
+        elif isinstance(node, (ast.For, ast.comprehension)):
+            for single in plain_targets(node.target):
+                values.setdefault(getattr(single, "id", None), []).append(None)
+    built = {name for name, rows in values.items() if name not in given and all(creates(row) for row in rows)}
+    objects = {name for name, rows in values.items() if name not in given and all(
+        isinstance(row, ast.Call) and getattr(row.func, "id", "")[:1].isupper() for row in rows)}
+    return built, objects
+
+
+def changed_things(function):
+    """What a function changes: the nodes whose items or attributes it assigns, removes or has changed by a method."""
+    for node in ast.walk(function):
+        if isinstance(node, (ast.Assign, ast.AugAssign, ast.Delete)):
+            yield from [row for row in targets_of(node) if not isinstance(row, ast.Name)]
+        elif isinstance(node, ast.Call) and isinstance(node.func, ast.Attribute) and node.func.attr in CHANGES:
+            yield node.func
+
+
+def is_property(function):
+    return any(isinstance(row, ast.Name) and row.id == "property" for row in function.decorator_list)
 
 
 class LanguageTest(unittest.TestCase):
@@ -208,6 +288,148 @@ class LanguageTest(unittest.TestCase):
         for where, node in nodes(ast.ClassDef):
             names = {row.name for row in node.body if isinstance(row, ast.FunctionDef)}
             self.assertTrue("__getitem__" not in names or "__iter__" in names, where)
+
+    def test_nothing_changes_what_it_did_not_create(self):
+        for where, owner, function in functions():
+            built, objects = created_names(function)
+            for node in changed_things(function):
+                root = root_of(node)
+                self.assertIsInstance(root, ast.Name, where)
+                is_attribute = isinstance(node, ast.Attribute) and isinstance(node.ctx, ast.Store)
+                if owner in CHANGING and not is_property(function) and root.id in ("self", "maker", "other"):
+                    continue
+                if is_attribute and root.id == "self" and function.name == "__init__":
+                    continue
+                self.assertIn(root.id, objects if is_attribute else built, f"{where}:{node.lineno}")
+
+    def test_operators_and_properties_change_nothing(self):
+        rows = {}
+        for _, owner, function in functions():
+            if is_setter(function):
+                continue
+            names = {node.attr for node in ast.walk(function) if isinstance(node, ast.Attribute)}
+            names |= {node.id for node in ast.walk(function) if isinstance(node, ast.Name)}
+            rows.setdefault(function.name, []).append((owner, function, names))
+            if function.name == "__init__":
+                rows.setdefault(owner, []).append((owner, function, names))
+        quiet = ("__init__", "__enter__", "__exit__", "__call__", "__setitem__", "__iter__")
+        waiting = [function.name for _, _, function in functions() if is_property(function) or (
+            function.name.startswith("__") and function.name not in quiet)]
+        seen = set()
+        while waiting:
+            name = waiting.pop()
+            if name in seen:
+                continue
+            seen.add(name)
+            for owner, function, names in rows.get(name, []):
+                if owner in CHANGING and function.name != "__init__":
+                    changed = [node for node in changed_things(function) if root_of(node).id == "self"]
+                    self.assertFalse(changed, f"{owner}.{function.name}")
+                waiting.extend(names & set(rows))
+        self.assertIn("numbered", seen)
+        self.assertNotIn("Steps", seen)
+
+    def test_only_integers_are_added_in_place(self):
+        for where, node in nodes(ast.AugAssign):
+            self.assertIsInstance(node.op, (ast.Add, ast.Sub), where)
+            self.assertIsInstance(node.target, ast.Name, where)
+            self.assertIsInstance(getattr(node.value, "value", None), int, where)
+
+    def test_loops_do_not_change_what_they_go_over(self):
+        for where, loop in nodes(ast.For):
+            over = loop.iter
+            while isinstance(over, ast.Call) and over.args and getattr(over.func, "id", "") in ("enumerate", "zip"):
+                over = over.args[0]
+            if isinstance(over, ast.Call) and isinstance(over.func, ast.Attribute) and over.func.attr in (
+                    "items", "values"):
+                over = over.func.value
+            if not isinstance(over, (ast.Name, ast.Attribute, ast.Subscript)):
+                continue
+            for node in changed_things(loop):
+                self.assertNotEqual(ast.unparse(root_of(node)), ast.unparse(over), where)
+                self.assertFalse(ast.unparse(node).startswith(ast.unparse(over)), where)
+
+    def test_is_and_raise(self):
+        for where, node in nodes(ast.Compare):
+            for sign, value in zip(node.ops, node.comparators):
+                if isinstance(sign, (ast.Is, ast.IsNot)):
+                    self.assertIn(getattr(value, "value", 0), (None, True, False), where)
+        for where, node in nodes(ast.Raise):
+            self.assertIsInstance(node.exc, ast.Call, where)
+            self.assertRegex(node.exc.func.id, r"\A[A-Z]", where)
+
+    def test_sorting_and_turning_round(self):
+        for where, node in nodes(ast.Call):
+            name = getattr(node.func, "id", "")
+            self.assertNotEqual(getattr(node.func, "attr", ""), "sort", where)
+            if name == "reversed":
+                self.assertIn(getattr(getattr(node.args[0], "func", None), "id", ""), ("list", "range"), where)
+
+    def test_generators_are_not_called_inside(self):
+        told = {function.name for _, _, function in functions()
+                if any(isinstance(node, (ast.Yield, ast.YieldFrom)) for node in ast.walk(function))}
+        self.assertEqual(told, {"each_round", "each_reached"})
+        for where, node in nodes((ast.Name, ast.Attribute)):
+            self.assertNotIn(getattr(node, "id", getattr(node, "attr", None)), told, where)
+
+    def test_lengths(self):
+        for where, owner, function in functions():
+            if function.name == "__len__":
+                for node in ast.walk(function):
+                    if isinstance(node, ast.Return):
+                        self.assertEqual(node.value.func.id, "len", where)
+
+    def test_what_items_bar(self):
+        for path in FILES:
+            self.assertIsNone(re.search(r"\(type\)|Meta|metaclass=", path.read_text("ascii")), path.name)
+        for where, name in bound_names():
+            self.assertNotEqual(name, "keys", where)
+        for where, node in nodes(ast.Attribute):
+            if node.attr == "keys":
+                self.assertIsInstance(node.ctx, ast.Load, where)
+
+    def test_methods_and_attributes_have_other_names(self):
+        for path, tree in TREES.items():
+            for node in tree.body:
+                if isinstance(node, ast.ClassDef):
+                    methods = [row.name for row in node.body if isinstance(row, ast.FunctionDef) and not is_setter(row)]
+                    self.assertEqual(len(methods), len(set(methods)), node.name)
+                    held = {row.attr for row in ast.walk(node) if isinstance(row, ast.Attribute)
+                            and isinstance(row.ctx, ast.Store)}
+                    self.assertFalse(held & set(methods), node.name)
+
+    def test_interface_stands_in_its_files(self):
+        for name, told in INTERFACE.items():
+            tree = TREES[PACKAGE / f"{name}.py"]
+            here = {node.name: node for node in tree.body if isinstance(node, (ast.FunctionDef, ast.ClassDef))}
+            for row in told.split():
+                kind, _, methods = row.partition(":")
+                self.assertIn(kind, here, name)
+                if methods:
+                    own = {node.name for node in here[kind].body if isinstance(node, ast.FunctionDef)}
+                    own |= {node.targets[0].id for node in here[kind].body if isinstance(node, ast.Assign)}
+                    self.assertLessEqual(set(methods.split(",")), own, kind)
+
+
+def is_setter(function):
+    return any(isinstance(row, ast.Attribute) and row.attr == "setter" for row in function.decorator_list)
+
+
+INTERFACE = {
+    "words": "is_letter is_word beginnings in_order joined text_of_word read_word",
+    "fronts": """Front:LONGEST,full,words,letters,longest,__contains__,__len__,__floordiv__,__or__,__and__,cut,lifted,is_within,is_before,__eq__,__repr__""",
+    "sayings": """Saying:MOST,triggers,makes,letters,make_letters,trigger_front,make_front,with_triggers,with_makes,__eq__,__repr__""",
+    "books": """Book:MOST_SAYINGS,MOST_LETTERS,sayings,__getitem__,__len__,__contains__,__add__,__or__,without,kept,exchanged,letters,make_letters,full_front,__eq__,__repr__""",
+    "webs": """is_term
+        Web:MOST_KNOTS,of,things,knots,__len__,__contains__,__getitem__,same,walked,leads,letters_at,front_at,pairs,is_tree,__add__,with_pair,united,__eq__,__repr__""",
+    "making": """can_make is_new after_instance instances new_instances after_round each_round end_of rounds_of
+        sure_instances""",
+    "makers": """Maker:book,web,at_rest,many,make,do_round,finish,tell,join,set_book,undo,fresh,copy,__eq__
+        Trial:__enter__,__exit__ tried""",
+    "coming": "coming_front comes behind_letter reached_fronts each_reached",
+    "lines": "is_line wrong_line derivation_of is_derivation",
+    "tables": "table_of is_table table_without shows",
+}
 
 
 if __name__ == "__main__":

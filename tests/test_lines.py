@@ -218,6 +218,12 @@ class DerivationTest(unittest.TestCase, Checks):
                 self.assertIs(is_derivation(BOTH, other, another, told), is_last)
                 self.assertIs(is_derivation(value=tuple(told), word=another, front=other, book=BOTH), is_last)
 
+    def test_of_another_front_with_the_same_word(self):
+        for front in (Front([("f", "g")]), Front([("f",), ("g",)]), Front()):
+            self.assertIs(is_derivation(BOTH, front, ("f",), LINES[:1]), False)
+            self.assertIs(is_derivation(BOTH, front, ("f", "g", "f"), LINES), False)
+            self.assertIs(is_derivation(BOTH, front, ("f",), [(front, (), "told")] + LINES[:1]), False)
+
     def test_nothing_is_of_no_front(self):
         for told in ([], ()):
             self.assertIs(is_derivation(BOTH, BEGIN, ("f",), told), False)

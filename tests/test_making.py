@@ -10,6 +10,7 @@ from helping import (
 from naive import order
 from wakesayings.books import Book
 from wakesayings.errors import CantMake, InvalidBook, InvalidInstances, InvalidWeb, TooMany, UnknownTerm
+from wakesayings.fronts import Front
 from wakesayings.making import (
     after_instance, after_round, can_make, each_round, end_of, instances, is_new, new_instances, rounds_of,
     sure_instances,
@@ -93,6 +94,17 @@ class InstancesTest(unittest.TestCase, Checks):
 
     def test_equal_sayings_are_told_twice(self):
         self.assert_same(new_instances(Book([UP, UP]), Web(terms=[("a", "f")])), [(0, ("a",)), (1, ("a",))])
+
+    def test_things_that_are_named_as_letters_are(self):
+        # No knot leads to a thing, so a thing meets no trigger.
+        web = Web(["g"], [("f", "f", "g"), ("x",)])
+        book = Book([Saying([("f",)], [("h",)]), Saying([("f", "f")], [("h",)]), Saying([("g",), ("f",)], [("h",)])])
+        self.assert_same(instances(book, web), [(0, ("f",))])
+        self.assert_same(new_instances(book, web), [(0, ("f",))])
+        self.assert_same(end_of(book, web), web + ("f", "h"))
+        self.assert_same(sure_instances(book, web), [(0, ("f",))])
+        self.assert_same(web.letters_at(("f",)), ["f"])
+        self.assert_same(web.front_at(("f",)), Front([("f", "g")]))
 
     def test_each_term_of_a_knot(self):
         web = Web([], [("a", "f", "g")], [(("b",), ("a", "f")), (("c", "g"), ("a",))])

@@ -7,7 +7,6 @@ from wakesayings.steps import TOLD, Steps, key_of
 from wakesayings.words import is_letter, is_word, need_word
 
 MOST_IN_REASON = 5
-LONGEST_BEHIND = 2
 
 
 def is_reason(value):
@@ -38,8 +37,9 @@ def is_right_by_letter(ahead, key, word, reason):
     """Whether the word comes behind the letter from the other front, all of which stands behind the letter here."""
     letter, other = reason
     behind = key_of(other)
-    if word[:1] != (letter,) or other.longest > LONGEST_BEHIND or (behind, word[1:]) not in ahead:
+    if word[:1] != (letter,) or (behind, word[1:]) not in ahead:
         return False
+    # For a word of three letters there is no such line, as no word has four.
     return all([(key, (letter,) + held) in ahead for held in behind])
 
 
@@ -96,6 +96,6 @@ def is_derivation(book, front, word, value):
     need_book(book)
     need_front(front)
     need_word(word)
-    if not is_list(value) or not value or wrong_line(book, value) is not None:
+    if wrong_line(book, value) is not None or not value:
         return False
     return value[-1][0] == front and value[-1][1] == word

@@ -33,17 +33,11 @@ def told_by_terms(web, found):
     return [(number, terms[knot - 1]) for number, knot in found]
 
 
-def need_place(book, web, number, term):
-    """Raise what is due first unless there is such a saying and such a term."""
+def can_make(book, web, number, term):
+    """Whether the instance can be made: all triggers of the saying can be walked from the term's knot."""
     need_book(book)
     need_web(web)
     need_number(book, number)
-    knot_of_term(web, term)
-
-
-def can_make(book, web, number, term):
-    """Whether the instance can be made: all triggers of the saying can be walked from the term's knot."""
-    need_place(book, web, number, term)
     return can_walk_all(leads_of_web(web), knot_of_term(web, term), book[number].triggers())
 
 

@@ -194,6 +194,5 @@ class Web:
         return isinstance(other, Web) and self._leads == other._leads
 
     def __repr__(self):
-        things, pairs = self.things(), self.pairs()
         terms = [term for term in self._least if len(term) > 1]
-        return f"Web({things!r}, {terms!r}, {pairs!r})"
+        return f"Web({self.things()!r}, {terms!r}, {self.pairs()!r})"

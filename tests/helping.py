@@ -116,6 +116,43 @@ def no_numbers(many):
     return wrong(InvalidNumber, [value for value in values if type(value) is not int or not 0 <= value < many])
 
 
+def plain_list(value):
+    return type(value) in (list, tuple)
+
+
+def plain_count(value):
+    return type(value) is int and value >= 0
+
+
+def plain_reason(value):
+    if type(value) is tuple:
+        return len(value) == 2 and plain_letter(value[0]) and isinstance(value[1], Front)
+    return (type(value) is str and value == "told") or (type(value) is int and 0 <= value <= 5)
+
+
+def plain_line(value):
+    return (type(value) is tuple and len(value) == 3 and isinstance(value[0], Front) and plain_word(value[1])
+            and plain_reason(value[2]))
+
+
+def plain_lines(value):
+    return plain_list(value) and all(plain_line(line) for line in value)
+
+
+def plain_ranked(value):
+    """Whether a value is a list of tuples of two fronts and a rank."""
+    return plain_list(value) and all(
+        type(row) is tuple and len(row) == 3 and isinstance(row[0], Front) and isinstance(row[1], Front)
+        and plain_count(row[2]) for row in value)
+
+
+def plain_lasso(value):
+    """Whether a value has the parts of a lasso."""
+    return (type(value) is tuple and len(value) == 4 and plain_list(value[0]) and plain_list(value[1])
+            and all(isinstance(front, Front) for front in value[0]) and all(plain_letter(part) for part in value[1])
+            and plain_count(value[2]) and plain_lines(value[3]))
+
+
 class Checks:
     """Stands beside unittest.TestCase."""
 
@@ -234,6 +271,53 @@ def some_webs():
         Web(["c"], [("a", "f", "g")], [(("a", "f"), ("b",)), (("b", "g", "f"), ("b",))]),
         Web([], [("a", "f", "g")], [(("a", "g"), ("a", "f", "f"))]),
     ] + [random_web(chance) for _ in range(25)]
+
+
+def changed_part(chance, value):
+    """The value with one of its parts, or itself, changed in some way; the parts that are changed are new."""
+    if isinstance(value, dict) and value and chance.random() < 0.9:
+        told = dict(value)
+        key = chance.choice(sorted(told))
+        way = chance.randrange(4)
+        if way == 0:
+            del told[key]
+        elif way == 1:
+            told[key + ("f",)] = told.pop(key)
+        else:
+            told[key] = changed_part(chance, told[key])
+        return told
+    if isinstance(value, (list, tuple)) and value and chance.random() < 0.9:
+        rows = list(value)
+        at = chance.randrange(len(rows))
+        way = chance.randrange(12)
+        if way == 0:
+            del rows[at]
+        elif way == 1:
+            rows.insert(chance.randrange(len(rows)), rows.pop(at))
+        elif way == 2:
+            rows.insert(at, chance.choice(rows))
+        elif way == 3:
+            rows[at] = chance.choice(rows)
+        else:
+            rows[at] = changed_part(chance, rows[at])
+        return type(value)(rows)
+    return changed_leaf(chance, value)
+
+
+def changed_leaf(chance, value):
+    if isinstance(value, Front):
+        word = chance.choice(value.words())
+        less = Front([held for held in value.words() if held[:len(word)] != word])
+        return chance.choice([less, value | random_front(chance), value | Front([word[:2] + ("f",)]), value.cut(2), None])
+    if isinstance(value, bool) or value is None:
+        return 0
+    if isinstance(value, int):
+        return chance.choice([value + 1, value - 1, 0, 1, value + 7, bool(value), "told"])
+    if isinstance(value, str):
+        return chance.choice(["f", "g", "h", "up", "down", "told", "F", value, 0])
+    if isinstance(value, tuple):
+        return chance.choice([list(value), (), ("f",), ("a",), value + ("f",)])
+    return chance.choice([tuple(value), [], None]) if isinstance(value, list) else None
 
 
 def all_words(letters, most):

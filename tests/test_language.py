@@ -35,7 +35,7 @@ BARRED_NODES = (ast.AsyncFunctionDef, ast.AsyncFor, ast.AsyncWith, ast.Await, as
 
 
 # These classes change their own objects; nothing else changes what it did not create itself.
-CHANGING = {"Maker", "Trial", "Steps"}
+CHANGING = {"Maker", "Trial", "Steps", "WebReader", "Desk"}
 CHANGES = {"append", "clear", "extend", "insert", "pop", "remove", "reverse", "setdefault", "update", "add", "discard",
            "sort"}
 
@@ -368,9 +368,12 @@ class LanguageTest(unittest.TestCase):
     def test_generators_are_not_called_inside(self):
         told = {function.name for _, _, function in functions()
                 if any(isinstance(node, (ast.Yield, ast.YieldFrom)) for node in ast.walk(function))}
-        self.assertEqual(told, {"each_round", "each_reached"})
+        self.assertEqual(told, {"each_round", "each_reached", "choices"})
+        # Each is called at the head of a loop only.
+        heads = [node.iter.func for _, node in nodes(ast.For) if isinstance(node.iter, ast.Call)]
         for where, node in nodes((ast.Name, ast.Attribute)):
-            self.assertNotIn(getattr(node, "id", getattr(node, "attr", None)), told, where)
+            if node not in heads:
+                self.assertNotIn(getattr(node, "id", getattr(node, "attr", None)), told, where)
 
     def test_lengths(self):
         for where, owner, function in functions():
@@ -429,6 +432,16 @@ INTERFACE = {
     "coming": "coming_front comes behind_letter reached_fronts each_reached",
     "lines": "is_line wrong_line derivation_of is_derivation",
     "tables": "table_of is_table table_without shows",
+    "ending": "ends ranked_table is_ranked lasso_of is_lasso front_size front_depth",
+    "singles": """standing_at new_leads goes_on web_size web_depth ever_there rest_paper run_paper is_rest_paper
+        is_run_paper""",
+    "finding": """finds_all first_missed alike finding_paper is_finding_paper missing_paper is_missing_paper needless
+        least_sets""",
+    "offers": "Offers:__init__,book,row,choices,__len__,__contains__,price,chosen",
+    "wishes": "Wish:__init__,must_end,goals,__call__,__eq__ cheapest fault is_fault",
+    "texts": "text_of read_book read_web text_of_term read_term",
+    "judge": "is_claim paper_of is_paper",
+    "desk": """Desk:__getitem__,__setitem__,put,drop,names,__contains__,__len__,changes,undo,do,do_all,copy,attempt,tried_by""",
 }
 
 

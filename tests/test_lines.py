@@ -4,7 +4,7 @@ import random
 import unittest
 
 from helping import (
-    BACK, LOOP, UP, Checks, all_words, any_values, no_books, no_fronts, no_lists, no_words, plain_letter, plain_word,
+    BACK, LOOP, UP, Checks, all_words, any_values, no_books, no_fronts, no_lists, no_words, plain_line, plain_reason,
     random_book, random_front, some_books,
 )
 from naive import coming_words, first_wrong
@@ -22,17 +22,6 @@ LINES = [
     (BEGIN, ("f",), "told"), (BEGIN, ("f", "g"), 0), (BEHIND, ("g",), "told"), (BEHIND, ("g", "f"), 1),
     (BEGIN, ("f", "g", "f"), ("f", BEHIND)),
 ]
-
-
-def plain_reason(value):
-    if type(value) is tuple:
-        return len(value) == 2 and plain_letter(value[0]) and isinstance(value[1], Front)
-    return (type(value) is str and value == "told") or (type(value) is int and 0 <= value <= 5)
-
-
-def plain_line(value):
-    return (type(value) is tuple and len(value) == 3 and isinstance(value[0], Front) and plain_word(value[1])
-            and plain_reason(value[2]))
 
 
 def no_reasons():

@@ -3,7 +3,7 @@
 from wakesayings.books import need_book
 from wakesayings.checks import is_count, is_list
 from wakesayings.fronts import Front, need_front
-from wakesayings.steps import TOLD, Steps, key_of
+from wakesayings.steps import DOWN, TOLD, key_of, steps_from
 from wakesayings.words import is_letter, is_word, need_word
 
 MOST_IN_REASON = 5
@@ -25,22 +25,22 @@ def is_line(value):
     return isinstance(value[0], Front) and is_word(value[1]) and is_reason(value[2])
 
 
-def is_right_by_saying(book, ahead, key, word, number):
+def is_right_by_saying(book, ahead, place, word, number):
     """Whether the lines ahead have all triggers of the saying, and the word is a beginning of one of its makes."""
     if number >= len(book):
         return False
-    met = all([(key, trigger) in ahead for trigger in book[number].triggers()])
+    met = all([(place, trigger) in ahead for trigger in book[number].triggers()])
     return met and word in book[number].make_front()
 
 
-def is_right_by_letter(ahead, key, word, reason):
+def is_right_by_letter(ahead, place, word, reason):
     """Whether the word comes behind the letter from the other front, all of which stands behind the letter here."""
     letter, other = reason
     behind = key_of(other)
     if word[:1] != (letter,) or (behind, word[1:]) not in ahead:
         return False
     # For a word of three letters there is no such line, as no word has four.
-    return all([(key, (letter,) + held) in ahead for held in behind])
+    return all([(place, (letter,) + held) in ahead for held in behind])
 
 
 def is_right(book, ahead, line):
@@ -66,18 +66,22 @@ def wrong_line(book, value):
     return None
 
 
-def lines_of(steps):
-    """The list of the lines that tell the steps of a list."""
-    # A front behind a letter is that of an earlier step, too.
-    fronts = {key: Front(key) for key, word, reason in steps}
-    lines = []
-    for key, word, reason in steps:
-        if isinstance(reason, tuple):
-            letter, behind = reason
-            lines.append((fronts[key], word, (letter, fronts[behind])))
-        else:
-            lines.append((fronts[key], word, reason))
-    return lines
+def told_reason(told, reason):
+    """The reason in a line for that of a step; told is a dict from places to what tells them in lines."""
+    if not isinstance(reason, tuple):
+        return reason
+    if len(reason) == 2:
+        return (reason[0], told[reason[1]])
+    way, letter, knot = reason
+    return (way, letter, told[knot]) if way == DOWN else (way, letter)
+
+
+def lines_of(steps, terms):
+    """The list of the lines that tell the steps of a list; terms are those that tell the knots from 1 on."""
+    # The other place in a reason is that of an earlier step, too.
+    places = {place: True for place, word, reason in steps}
+    told = {place: terms[place - 1] if isinstance(place, int) else Front(place) for place in places}
+    return [(told[place], word, told_reason(told, reason)) for place, word, reason in steps]
 
 
 def derivation_of(book, front, word):
@@ -85,10 +89,10 @@ def derivation_of(book, front, word):
     need_book(book)
     need_front(front)
     need_word(word)
-    steps = Steps(book, front)
-    if word not in steps.words():
+    steps = steps_from(book, front)
+    if word not in steps.words(key_of(front)):
         return None
-    return lines_of(steps.leading_to(word))
+    return lines_of(steps.leading_to([(key_of(front), word)]), [])
 
 
 def is_derivation(book, front, word, value):

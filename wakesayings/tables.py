@@ -4,7 +4,7 @@ from wakesayings.books import need_book
 from wakesayings.checks import is_list
 from wakesayings.coming import comes
 from wakesayings.fronts import Front, need_front
-from wakesayings.steps import Steps, in_order_of_keys
+from wakesayings.steps import in_order_of_keys, key_of, steps_from
 from wakesayings.words import need_word
 
 
@@ -43,7 +43,8 @@ def table_of(book, front):
     """The list of the tuples (front, coming front) of all fronts that are reached from a front."""
     need_book(book)
     need_front(front)
-    return [(Front(key), Front(words)) for key, words in in_order_of_keys(Steps(book, front).reached())]
+    reached = steps_from(book, front).reached([key_of(front)])
+    return [(Front(key), Front(words)) for key, words in in_order_of_keys(reached)]
 
 
 def is_table(book, value):

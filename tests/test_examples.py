@@ -70,6 +70,67 @@ EXAMPLES = {
 >>> [shows(one, begin, ("g",), table_of(one, begin)), shows(one, begin, ("f", "g"), table_of(one, begin))]
 [True, False]
 """,
+    "stage 6": r"""
+>>> from wakesayings.books import Book
+>>> from wakesayings.ending import ends, front_depth, front_size, is_lasso
+>>> from wakesayings.fronts import Front
+>>> from wakesayings.sayings import Saying
+>>> from wakesayings.singles import ever_there, goes_on, new_leads, web_size
+>>> from wakesayings.webs import Web
+>>> up = Book([Saying([("f",)], [("f", "g")])])
+>>> [ends(up), front_size(up, Front([("f", "f")])), front_depth(up, Front([("f", "f")]))]
+[True, 5, 3]
+>>> loop = Book([Saying([("g",)], [("f", "g")])])
+>>> near = Front([("g",)])
+>>> lines = [(near, ("g",), "told"), (near, ("f",), 0), (near, ("f", "g"), 0)]
+>>> [ends(loop), is_lasso(loop, ([near, near], ["f"], 0, lines), near), is_lasso(loop, ([near, near], ["f"], 1, lines))]
+[False, True, False]
+>>> web = Web(["a"], [("a", "g")])
+>>> [goes_on(loop, web), new_leads(loop, web), web_size(loop, web), ever_there(loop, web, ("a", "f", "f", "f", "g"))]
+[True, [(('a',), 'f')], None, True]
+""",
+    "stage 7": r"""
+>>> from wakesayings.books import Book
+>>> from wakesayings.finding import alike, finds_all, first_missed, least_sets, needless
+>>> from wakesayings.sayings import Saying
+>>> two = Book([Saying([("f",)], [("g",)]), Saying([("g",)], [("h",)])])
+>>> one = Book([Saying([("f",)], [("h",)])])
+>>> [finds_all(two, one), first_missed(one, two), alike(one, two)]
+[True, (0, ('g',)), False]
+>>> three = Book(two.sayings() + one.sayings())
+>>> [needless(three), least_sets(three)]
+[[2], [[0, 1]]]
+""",
+    "stage 8": r"""
+>>> from wakesayings.books import Book
+>>> from wakesayings.offers import Offers
+>>> from wakesayings.sayings import Saying
+>>> from wakesayings.wishes import Wish, cheapest
+>>> book = Book([Saying([("f",)], [("f", "g")]), Saying([("g",)], [("g", "f")])])
+>>> offers = Offers(book, [[([("f", "f")], 2)], [([("g", "g")], 1), ([("f", "g")], 3)]])
+>>> [len(offers), list(offers.choices())]
+[6, [(0, 0), (0, 1), (1, 0), (0, 2), (1, 1), (1, 2)]]
+>>> cheapest(offers, Wish())
+(1, [(0, 1)])
+""",
+    "stage 9": r"""
+>>> from wakesayings.books import Book
+>>> from wakesayings.desk import Desk
+>>> from wakesayings.sayings import Saying
+>>> from wakesayings.texts import text_of
+>>> from wakesayings.webs import Web
+>>> one = Saying([("f",)], [("f", "g")])
+>>> [text_of(Book([one])), text_of(Web(["b"], [("a", "f")], [(("a", "f", "f"), ("a",)), (("b",), ("a",))]))]
+['saying f -> f.g\n', 'thing a\nthing b\nterm a.f\nequal b a\nequal a.f.f a\n']
+>>> desk = Desk()
+>>> desk["once"] = Book([one])
+>>> desk["both"] = Book([one, Saying([("g",)], [("g", "f")])])
+>>> desk["web"] = Web([], [("a", "f")])
+>>> desk.do_all("ends once", "ends both", "size once web", "size both web", "finds once both", "rest once web", "tell web a.g")
+['yes', 'no', '3', 'none', '1 g.f', 'done', 'done']
+>>> [desk.changes, desk["web"].knots()]
+[5, [('a',), ('a', 'f'), ('a', 'g'), ('a', 'f', 'g')]]
+""",
 }
 
 

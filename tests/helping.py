@@ -153,6 +153,49 @@ def plain_lasso(value):
             and plain_count(value[2]) and plain_lines(value[3]))
 
 
+class Refuses:
+    """Its objects refuse to be compared, looked up, measured, gone through or tested."""
+
+    __hash__ = None
+
+    def __eq__(self, other):
+        raise AssertionError("compared")
+
+    def __bool__(self):
+        raise AssertionError("tested")
+
+    def __len__(self):
+        raise AssertionError("measured")
+
+    def __iter__(self):
+        raise AssertionError("gone through")
+
+
+class Agrees:
+    """Its objects say that they are equal to everything."""
+
+    def __eq__(self, other):
+        return True
+
+    def __hash__(self):
+        return 1
+
+
+def with_odd_parts(value):
+    """Yields the value with each of its parts, and itself, replaced by an object of another class, one at a time."""
+    yield Refuses()
+    yield Agrees()
+    if isinstance(value, dict):
+        for key in value:
+            for odd in with_odd_parts(value[key]):
+                yield {**value, key: odd}
+        yield {**{key: value[key] for key in list(value)[1:]}, Agrees(): Front()}
+    elif isinstance(value, (list, tuple)):
+        for at in range(len(value)):
+            for odd in with_odd_parts(value[at]):
+                yield type(value)([*value[:at], odd, *value[at + 1:]])
+
+
 class Checks:
     """Stands beside unittest.TestCase."""
 

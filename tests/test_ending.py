@@ -415,6 +415,8 @@ class LassoTest(unittest.TestCase, Checks):
                 self.assertIs(is_lasso(GROWING, ([value, NEAR], ["f"], 0, LINES)), False)
                 self.assertIs(is_lasso(GROWING, ([NEAR, value], ["f"], 0, LINES)), False)
             self.assertIs(is_lasso(GROWING, ([NEAR, NEAR], [value], 0, LINES)), value == "f")
+            self.assertIs(is_lasso(GROWING, ([NEAR] * 3, ["f", value], 0, LINES)), value == "f")
+            self.assertIs(is_lasso(GROWING, ([NEAR] * 3, [value, "f"], 0, LINES)), value == "f")
 
     def test_changed_ones(self):
         chance = random.Random(65)

@@ -5,7 +5,7 @@ import unittest
 
 from helping import (
     BACK, LOOP, UP, Checks, any_values, changed_part, no_lists, plain_lasso, plain_lines, plain_ranked, plain_word,
-    random_book, random_front, random_short_book, random_web, some_books, some_webs, wrong,
+    random_book, random_front, random_short_book, random_web, some_books, some_webs, with_odd_parts, wrong,
 )
 from naive import (
     coming_words, first_wrong, is_lasso_one, is_ranked_one, is_rest_one, is_run_one, is_shown, missed_of, new_ones,
@@ -206,6 +206,19 @@ class PaperTest(unittest.TestCase, Checks):
         for claim, _, judge in some_claims(random.Random(95), 2):
             for value in any_values():
                 self.assertIs(is_paper(claim, value), bool(judge(value)), (claim, value))
+
+    def test_objects_of_other_classes(self):
+        seen = {}
+        chance = random.Random(96)
+        for claim, truth, _ in some_claims(chance, 12):
+            if truth:
+                values = list(with_odd_parts(paper_of(claim)))
+                for value in chance.sample(values, min(60, len(values))):
+                    self.assertIs(is_paper(claim, value), False)
+                    seen[claim[0]] = seen.get(claim[0], 0) + 1
+            for value in with_odd_parts(claim):
+                self.assertIs(is_claim(value), False)
+        self.assertEqual(sorted(seen), sorted(KINDS))
 
     def test_the_full_front_or_any(self):
         # A ranked table for another front does not show that a book ends, but any lasso shows that it does not.

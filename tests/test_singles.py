@@ -501,7 +501,9 @@ class RunTest(unittest.TestCase, Checks):
                 (("a",), ("f", "g"), ("up", "g")), (("a",), ("g",), ("up", "f")), (("a",), (), ("up", "f")),
                 (("a",), ("f", "f"), ("up", "f")), (("a", "f"), ("f", "g"), ("up", "f")), (("a",), ("f", "g"), ["up", "f"]),
                 (("a",), ("f", "g"), ("up", "f", ("a", "f"))), (("a",), ("f", "g"), ("up", ("f",))),
-                (("a",), ("f", "g"), ("up",)), (("a",), ("f", "g"), ("Up", "f")), (("a",), ("f", "g"), ("up", None))]:
+                (("a",), ("f", "g"), ("up",)), (("a",), ("f", "g"), ("Up", "f")), (("a",), ("f", "g"), ("up", None)),
+                (("a",), ("f", "g"), ("down", "f")), (("a",), ("f", "g"), ("f", "f")), (("a",), ("f", "g"), ()),
+                (("a",), ("f", "g"), ("told", "f")), (("a",), ("f", "g"), ("f",))]:
             self.assert_lines(ONE, web, told + [line], False)
             self.assert_lines(ONE, web, [line] + told, False)
         # The letter may lead to the knot itself.

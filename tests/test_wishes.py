@@ -5,7 +5,7 @@ import unittest
 
 from helping import (
     BACK, LOOP, UP, Checks, any_values, changed_part, error_of, no_books, not_of, plain_lasso, random_short_book,
-    some_books, wrong,
+    some_books, with_odd_parts, wrong,
 )
 from naive import is_lasso_one, missed_of, size_and_depth
 from test_finding import is_missing
@@ -232,6 +232,16 @@ class FaultTest(unittest.TestCase, Checks):
                 for choice in offers.choices():
                     if told is None or offers.price(choice) < told[0]:
                         self.assertIs(is_fault(offers, wish, choice, fault(offers, wish, choice)), True)
+
+    def test_objects_of_other_classes(self):
+        wish = Wish(goals=Book([Saying([("g",)], [("h",)])]))
+        for told in (fault(OFFERS, wish, (0, 0)), fault(OFFERS, wish, (0, 1))):
+            self.assertIs(is_fault(OFFERS, wish, (0, int(told[0] == "misses")), told), True)
+            for value in with_odd_parts(told):
+                self.assertIs(is_fault(OFFERS, wish, (0, 1), value), False)
+                self.assertIs(is_fault(OFFERS, wish, (0, 0), value), False)
+        for value in with_odd_parts((0, 1)):
+            self.assertIs(value in OFFERS, False)
 
     def test_what_is_none(self):
         for value in any_values():

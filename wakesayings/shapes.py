@@ -16,4 +16,4 @@ def is_of_shape(shape, value):
         return isinstance(value, Book)
     if shape == "front":
         return isinstance(value, Front)
-    return shape == "web" and isinstance(value, Web)
+    return isinstance(value, Web)

@@ -7,7 +7,7 @@ from wakesayings.fronts import Front
 from wakesayings.lines import is_line, is_right, is_right_by_letter, is_right_by_saying, lines_of
 from wakesayings.steps import DOWN, TOLD, UP, Steps, key_of, keys_behind, walks_from
 from wakesayings.tables import has_all_makes, is_met_behind
-from wakesayings.webs import is_term, knot_of_term, leads_of_web, need_term, need_web
+from wakesayings.webs import knot_of_term, leads_of_web, need_term, need_web
 from wakesayings.words import is_letter, is_word
 
 
@@ -178,7 +178,7 @@ def is_rest_paper(book, web, value):
 
 def is_least(web, value):
     """Whether any value is the least term of a knot of the web."""
-    return is_term(value) and value in web and web[value] == value
+    return value in web and web[value] == value
 
 
 def is_right_by_lead(web, ahead, term, word, reason):
@@ -187,7 +187,7 @@ def is_right_by_lead(web, ahead, term, word, reason):
     The reason is a tuple that is not (letter, front).
     """
     # The words that tell the way are letters themselves.
-    if len(reason) < 2 or not is_word(reason[:2]):
+    if not is_word(reason[:2]):
         return False
     letter = reason[1:2]
     if len(reason) == 2 and reason[0] == UP:

@@ -151,7 +151,7 @@ class WebReader:
         return True
 
     def _takes_term(self, term):
-        if len(term) == 1 or term[:-1] not in self._least or self._pairs:
+        if term[:-1] not in self._least or self._pairs:
             return False
         if self._terms and not is_ahead(self._terms[-1], term):
             return False
